@@ -171,6 +171,39 @@ func TestNodes(t *testing.T) {
 	}
 }
 
+// serials counts the nodes of a tree by their serials.
+func serials(nodes []*Node, count map[int]int) {
+	for _, n := range nodes {
+		if (n.Serial() == 0) != (n.Kind() < Block) {
+			count[-1]++
+		}
+		count[n.Serial()]++
+		serials(n.Parts(), count)
+	}
+}
+
+func TestSerials(t *testing.T) {
+	for _, text := range []string{
+		"int x;struct s{int a;};", "void f(int a){}", "int a;int f(){return 1;}struct s{int x;};void g(public int b,char*c){int d=1;{;}}",
+		inBody("if(a)b;else{}while((c)){break;continue;}out(d);e=f(1,in(),-g+h[i].j->k,(int)l*sizeof(int));return;"),
+	} {
+		p, _, e := Parse(text)
+		if e != api.OK {
+			t.Fatalf("P5.1: %q: %d", text, e)
+		}
+		count := map[int]int{}
+		serials(p.Parts(), count)
+		for i := 1; i <= p.Nodes(); i++ {
+			if count[i] != 1 {
+				t.Errorf("%q: %d nodes with the serial %d", text, count[i], i)
+			}
+		}
+		if others := len(count) - p.Nodes(); count[-1] > 0 || others > 1 || others == 1 && count[0] == 0 {
+			t.Errorf("%q: serials %v of %d nodes", text, count, p.Nodes())
+		}
+	}
+}
+
 // TestFaults has `@` where the first word is that no program goes on with; it is no word of the text.
 func TestFaults(t *testing.T) {
 	bodies := []string{

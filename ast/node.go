@@ -49,6 +49,7 @@ type Node struct {
 	typ      shape
 	public   bool
 	parts    []*Node
+	serial   int
 	height   int // of a statement or expression: how deep parts nest in it, itself and the parentheses round it too
 }
 
@@ -57,6 +58,9 @@ func (n *Node) Kind() int { return n.kind }
 
 // At tells its place: of the operator's word of Binary, Index and Member, of the name's of what has a Type and a Name, else of the first word.
 func (n *Node) At() api.Pos { return n.at }
+
+// Serial tells which statement or expression of its tree it is, from 1 to as many as there are; of another node 0.
+func (n *Node) Serial() int { return n.serial }
 
 // Name tells the name that it has.
 func (n *Node) Name() string { return n.name }

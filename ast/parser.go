@@ -96,6 +96,7 @@ func (p *parser) leave() { p.depth-- }
 // grow makes a statement or an expression, and holds it against the limits.
 func (p *parser) grow(n Node) *Node {
 	p.nodes++
+	n.serial = p.nodes
 	if p.nodes > api.MaxNodes {
 		p.fail(api.ELIMIT, n.at)
 	}

@@ -18,6 +18,8 @@ type checker struct {
 	numbers          map[string]int      // the functions', by name
 	sizes            []*ast.Node         // the sizeofs
 	here             *function           // the one whose body is looked at
+	notes            notes
+	typeNumbers      map[string]int // those of the notes, by type
 	fault            api.Pos
 	e                api.Errno
 }
@@ -31,6 +33,7 @@ type function struct {
 	inner  map[string]variable // its parameters and variables, by name
 	loops  int                 // how many whiles stand around what is looked at
 	locals []*ast.Node
+	taken  map[string]struct{} // the names of those whose address is taken
 }
 
 // variable is what a name, or a field, stands for. One whose block has ended is kept, since its name may not be given again.
@@ -42,9 +45,10 @@ type variable struct {
 // field names one of a struct, which is told as a type.
 type field struct{ record, name string }
 
-func newChecker(parts []*ast.Node) *checker {
+func newChecker(p *ast.Program) *checker {
 	c := &checker{fields: map[field]variable{}, outer: map[string]variable{}, numbers: map[string]int{}}
-	for _, n := range parts {
+	c.notes, c.typeNumbers = newNotes(p.Nodes()), map[string]int{}
+	for _, n := range p.Parts() {
 		switch n.Kind() {
 		case ast.Struct:
 			c.structs = append(c.structs, n)
@@ -60,7 +64,7 @@ func newChecker(parts []*ast.Node) *checker {
 func newFunction(n *ast.Node) *function {
 	parts := n.Parts()
 	last := len(parts) - 1
-	f := &function{node: n, params: parts[:last], body: parts[last], inner: map[string]variable{}}
+	f := &function{node: n, params: parts[:last], body: parts[last], inner: map[string]variable{}, taken: map[string]struct{}{}}
 	f.sig = Sig{Name: n.Name(), Type: n.Type()}
 	for _, p := range f.params {
 		f.sig.Params = append(f.sig.Params, p.Type())
@@ -73,6 +77,24 @@ func (c *checker) sigs() []Sig {
 	var l []Sig
 	for _, f := range c.functions {
 		l = append(l, f.sig)
+	}
+	return l
+}
+
+func (c *checker) vars() [][]Var {
+	var l [][]Var
+	for _, f := range c.functions {
+		l = append(l, append(vars(f.params, f.taken), vars(f.locals, f.taken)...))
+	}
+	return l
+}
+
+// vars tells declared names, with those among them whose address is taken.
+func vars(nodes []*ast.Node, taken map[string]struct{}) []Var {
+	var l []Var
+	for _, n := range nodes {
+		_, isTaken := taken[n.Name()]
+		l = append(l, Var{Name: n.Name(), Type: n.Type(), Taken: isTaken})
 	}
 	return l
 }

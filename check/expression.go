@@ -23,6 +23,7 @@ func (c *checker) expression(n *ast.Node) typed {
 	if e.typ == "" {
 		c.refuse(n)
 	}
+	c.noteType(n, e.typ)
 	return e
 }
 
@@ -47,7 +48,7 @@ func (c *checker) byKind(n *ast.Node, parts []*ast.Node) typed {
 	case ast.Number:
 		return numeral(n.N())
 	case ast.Name:
-		return place(c.named(n.Name()))
+		return place(c.named(n))
 	case ast.Call:
 		return typed{typ: c.call(n.Name(), parts)}
 	case ast.Unary:
@@ -76,11 +77,12 @@ func numeral(n int64) typed {
 }
 
 // named tells the type of the variable that a name stands for here.
-func (c *checker) named(name string) string {
-	if v, ok := c.here.inner[name]; ok && !v.isOver {
+func (c *checker) named(n *ast.Node) string {
+	if v, ok := c.here.inner[n.Name()]; ok && !v.isOver {
 		return v.typ
 	}
-	return c.outer[name].typ
+	c.noteGlobal(n)
+	return c.outer[n.Name()].typ
 }
 
 func (c *checker) call(name string, arguments []*ast.Node) string {
@@ -106,6 +108,7 @@ func (c *checker) unary(op string, part *ast.Node) typed {
 		return place(c.target(c.value(part).typ))
 	case "&":
 		if e := c.expression(part); e.isPlace && !isArray(e.typ) {
+			c.take(part)
 			return typed{typ: e.typ + "*"}
 		}
 	case "!":
@@ -116,6 +119,13 @@ func (c *checker) unary(op string, part *ast.Node) typed {
 		return typed{typ: widened(c.value(part).typ)}
 	}
 	return typed{}
+}
+
+// take keeps in mind whose address is taken, if it is one of the function's own.
+func (c *checker) take(n *ast.Node) {
+	if n.Kind() == ast.Name && !c.notes.isGlobal(n) {
+		c.here.taken[n.Name()] = struct{}{}
+	}
 }
 
 // binary tells the type of an operation on two values; nothing, if it does not take them.

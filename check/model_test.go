@@ -211,7 +211,7 @@ func eachOf(t *testing.T, texts []string, look func(c *checker, n *ast.Node, i i
 	for from := 0; from < len(texts); from += 400 {
 		some := texts[from:min(from+400, len(texts))]
 		tree := parsed(t, within(strings.Join(some, "")))
-		c := newChecker(tree.Parts())
+		c := newChecker(tree)
 		c.rules()
 		body := c.functions[len(c.functions)-1].body.Parts()
 		if c.here != c.functions[len(c.functions)-1] || len(body) != skipped+len(some)+1 {
@@ -237,6 +237,9 @@ func hold(t *testing.T, l []sample) {
 		got := c.expression(n.Parts()[0])
 		if got != (typed{s.typ, s.isPlace, s.isZero}) || (c.e == api.OK) != (s.typ != "") {
 			t.Errorf("P7.1: %s: %+v, %d, want %+v", s.text, got, c.e, s)
+		}
+		if typ := c.notes.typeOf(n.Parts()[0]); typ != s.typ {
+			t.Errorf("P7.1: %s is noted as %q, want %q", s.text, typ, s.typ)
 		}
 		isValue := modelValue(s).typ != "" || s.typ == "void"
 		switch {
