@@ -4,6 +4,7 @@ import (
 	"plumbob/api"
 	"plumbob/ast"
 	"plumbob/check"
+	"plumbob/core"
 	"plumbob/simpl"
 	"plumbob/types"
 )
@@ -38,16 +39,16 @@ func newBuilder(p *check.Program) *builder {
 	return &builder{checked: p, table: p.Table(), sigs: p.Sigs(), numbers: map[string]int{}, globals: map[string]int{}, offsets: map[field]int{}}
 }
 
-func (b *builder) program() *Prog {
-	made := &Prog{}
+func (b *builder) program() core.Prog {
+	made := core.Prog{}
 	for i, g := range b.checked.Globals() {
 		b.globals[g.Name] = i
-		made.globals = append(made.globals, b.size(g.Type))
+		made.Globals = append(made.Globals, b.size(g.Type))
 	}
 	for i, s := range b.sigs {
 		b.numbers[s.Name] = i
 	}
-	made.main = b.numbers[b.checked.Main().Name]
+	made.Main = b.numbers[b.checked.Main().Name]
 	parts := b.checked.Tree().Parts()
 	for _, n := range parts {
 		if n.Kind() == ast.Struct {
@@ -57,7 +58,7 @@ func (b *builder) program() *Prog {
 	vars := b.varsByFunction()
 	for _, n := range parts {
 		if n.Kind() == ast.Function {
-			made.functions = append(made.functions, b.function(n, vars[n.Name()]))
+			made.Functions = append(made.Functions, b.function(n, vars[n.Name()]))
 		}
 	}
 	return made
@@ -83,37 +84,37 @@ func (b *builder) size(typ string) int {
 	return size
 }
 
-func (b *builder) function(n *ast.Node, vars []simpl.Var) function {
+func (b *builder) function(n *ast.Node, vars []simpl.Var) core.Function {
 	parts := n.Parts()
-	f := function{name: n.Name(), params: len(parts) - 1}
+	f := core.Function{Name: n.Name(), Params: len(parts) - 1}
 	b.homes, b.answer, b.vars, b.held, b.spare = map[string]home{}, n.Type(), 0, 0, 0
 	b.settle(&f, vars)
-	l := b.opening(vars[:f.params], f.name == b.checked.Main().Name)
-	f.body = of(block, append(l, b.statement(parts[f.params]))...)
-	f.vars = b.vars + b.spare
+	l := b.opening(vars[:f.Params], f.Name == b.checked.Main().Name)
+	f.Body = of(core.Block, append(l, b.statement(parts[f.Params]))...)
+	f.Vars = b.vars + b.spare
 	return f
 }
 
 // settle gives a function's parameters and variables their homes.
-func (b *builder) settle(f *function, vars []simpl.Var) {
+func (b *builder) settle(f *core.Function, vars []simpl.Var) {
 	for i, v := range vars {
-		isParam := i < f.params
+		isParam := i < f.Params
 		if v.Apart {
 			b.homes[v.Name] = home{true, b.vars}
 		} else {
-			b.homes[v.Name] = home{false, f.frame}
-			f.frame += madeUp(b.size(v.Type))
+			b.homes[v.Name] = home{false, f.Frame}
+			f.Frame += madeUp(b.size(v.Type))
 		}
 		// A parameter is given its value as a variable, wherever it lives.
 		if v.Apart || isParam {
 			b.vars++
 		}
 		if isParam {
-			f.cut = f.frame
+			f.Cut = f.Frame
 		}
 	}
-	if f.frame <= api.MaxSize {
-		f.cut = f.frame
+	if f.Frame <= api.MaxSize {
+		f.Cut = f.Frame
 	}
 }
 
@@ -121,25 +122,25 @@ func (b *builder) settle(f *function, vars []simpl.Var) {
 func madeUp(size int) int { return (size + 7) / 8 * 8 }
 
 // opening makes what is done with the parameters ahead of a function's body: main's come as any numbers, and those that need memory are to be laid there.
-func (b *builder) opening(params []simpl.Var, isMain bool) []*node {
-	var l []*node
+func (b *builder) opening(params []simpl.Var, isMain bool) []*core.Node {
+	var l []*core.Node
 	for i, v := range params {
-		given := the(variable, i)
+		given := the(core.Variable, i)
 		if isMain {
 			given = converted(given, extension(v.Type, "long"))
 		}
 		h := b.homes[v.Name]
 		switch {
 		case !h.isApart:
-			l = append(l, b.laying(the(local, h.at), given, v.Type))
-		case given.kind != variable: // it is converted
-			l = append(l, setting(h.at, given))
+			l = append(l, b.laying(the(core.Local, h.at), given, v.Type))
+		case given.Kind != core.Variable: // it is converted
+			l = append(l, the(core.Set, h.at, given))
 		}
 	}
 	return l
 }
 
 // laying gives a value to a place of a type in the memory.
-func (b *builder) laying(at, e *node, typ string) *node {
-	return &node{kind: store, op: b.size(typ), parts: []*node{at, e}}
+func (b *builder) laying(at, e *core.Node, typ string) *core.Node {
+	return access(core.Store, b.size(typ), at, e)
 }

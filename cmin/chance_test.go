@@ -5,6 +5,7 @@ import (
 	"testing"
 
 	"plumbob/api"
+	"plumbob/sample"
 )
 
 // somes are numbers by chance.
@@ -22,8 +23,8 @@ func TestMeaningByChance(t *testing.T) {
 	events, leaks := 0, 0
 	for seed := range int64(900) {
 		r := rand.New(rand.NewSource(seed))
-		m := &maker{Rand: r, slips: int(seed % 3 * 60)}
-		c := pairOf(t, m.program())
+		m := sample.New(r.Intn, int(seed%3*60))
+		c := pairOf(t, m.Program())
 		for range 3 {
 			args, world := somes(r, 4), somes(r, r.Intn(6))
 			last := c.holds(args, world, 3000)
@@ -46,8 +47,8 @@ func TestLeaksByChance(t *testing.T) {
 	asked, unlike := 0, 0
 	for seed := range int64(300) {
 		r := rand.New(rand.NewSource(seed))
-		m := &maker{Rand: r, slips: int(seed % 2 * 200)}
-		c := pairOf(t, m.program())
+		m := sample.New(r.Intn, int(seed%2*200))
+		c := pairOf(t, m.Program())
 		first, second := somes(r, 4), somes(r, 4)
 		copy(second, first[:2])
 		if c.leakTheSame(first, somes(r, 5), second, somes(r, 5)) {

@@ -5,31 +5,32 @@ import (
 
 	"plumbob/api"
 	"plumbob/ast"
+	"plumbob/core"
 	"plumbob/types"
 	"plumbob/val"
 )
 
 // value makes an expression one that comes to its value.
-func (b *builder) value(n *ast.Node) *node {
+func (b *builder) value(n *ast.Node) *core.Node {
 	if !isPlace(n) {
 		return b.plain(n, n.Parts())
 	}
 	typ := b.checked.TypeOf(n)
 	switch {
 	case b.isApart(n):
-		return the(variable, b.homes[n.Name()].at)
+		return the(core.Variable, b.homes[n.Name()].at)
 	case isArray(typ):
 		return b.place(n)
 	}
-	return &node{kind: load, op: b.size(typ), parts: []*node{b.place(n)}}
+	return access(core.Load, b.size(typ), b.place(n))
 }
 
 // fitted makes an expression one whose value another type is given.
-func (b *builder) fitted(n *ast.Node, typ string) *node {
+func (b *builder) fitted(n *ast.Node, typ string) *core.Node {
 	return converted(b.value(n), extension(typ, b.checked.TypeOf(n)))
 }
 
-func converted(e *node, extension int) *node {
+func converted(e *core.Node, extension int) *core.Node {
 	if extension == 0 {
 		return e
 	}
@@ -70,14 +71,14 @@ func (b *builder) isApart(n *ast.Node) bool {
 }
 
 // place makes a place in the memory an expression that comes to its address.
-func (b *builder) place(n *ast.Node) *node {
+func (b *builder) place(n *ast.Node) *core.Node {
 	parts := n.Parts()
 	switch n.Kind() {
 	case ast.Name:
 		if b.checked.IsGlobal(n) {
-			return the(global, b.globals[n.Name()])
+			return the(core.Global, b.globals[n.Name()])
 		}
-		return the(local, b.homes[n.Name()].at)
+		return the(core.Local, b.homes[n.Name()].at)
 	case ast.Index:
 		return b.step(api.Add, b.value(parts[0]), b.value(parts[1]), b.checked.TypeOf(n))
 	case ast.Member:
@@ -87,15 +88,15 @@ func (b *builder) place(n *ast.Node) *node {
 }
 
 // step makes a pointer one to another element: an integer, times the size of the type that it is to, is put to it or taken from it.
-func (b *builder) step(op int, pointer, count *node, typ string) *node {
+func (b *builder) step(op int, pointer, count *core.Node, typ string) *core.Node {
 	return two(op, pointer, two(api.Mul, count, b.sizeOf(typ)))
 }
 
-func (b *builder) sizeOf(typ string) *node { return constant(int64(b.size(typ))) }
+func (b *builder) sizeOf(typ string) *core.Node { return constant(int64(b.size(typ))) }
 
-func (b *builder) member(n, part *ast.Node) *node {
+func (b *builder) member(n, part *ast.Node) *core.Node {
 	record := b.checked.TypeOf(part)
-	var e *node
+	var e *core.Node
 	if n.Op() == "." {
 		e = b.place(part)
 	} else {
@@ -111,14 +112,14 @@ func (b *builder) member(n, part *ast.Node) *node {
 }
 
 // plain makes an expression that is no place one that comes to its value.
-func (b *builder) plain(n *ast.Node, parts []*ast.Node) *node {
+func (b *builder) plain(n *ast.Node, parts []*ast.Node) *core.Node {
 	switch n.Kind() {
 	case ast.Number:
 		return constant(n.N())
 	case ast.Sizeof:
 		return b.sizeOf(n.Type())
 	case ast.In:
-		return of(input)
+		return of(core.Input)
 	case ast.Cast:
 		return b.cast(parts[0], n.Type())
 	case ast.Unary:
@@ -129,7 +130,7 @@ func (b *builder) plain(n *ast.Node, parts []*ast.Node) *node {
 	return b.call(n, parts)
 }
 
-func (b *builder) cast(part *ast.Node, typ string) *node {
+func (b *builder) cast(part *ast.Node, typ string) *core.Node {
 	e := b.value(part)
 	if op := extension(typ, b.checked.TypeOf(part)); op != 0 {
 		return one(op, e)
@@ -137,16 +138,16 @@ func (b *builder) cast(part *ast.Node, typ string) *node {
 	return kept(e)
 }
 
-func (b *builder) call(n *ast.Node, parts []*ast.Node) *node {
+func (b *builder) call(n *ast.Node, parts []*ast.Node) *core.Node {
 	f := b.numbers[n.Name()]
-	e := the(call, f)
+	e := the(core.Call, f)
 	for i, a := range parts {
-		e.parts = append(e.parts, b.fitted(a, b.sigs[f].Params[i]))
+		e.Parts = append(e.Parts, b.fitted(a, b.sigs[f].Params[i]))
 	}
 	return e
 }
 
-func (b *builder) unary(n, part *ast.Node) *node {
+func (b *builder) unary(n, part *ast.Node) *core.Node {
 	switch n.Op() {
 	case "&":
 		return kept(b.place(part))
@@ -160,11 +161,11 @@ func (b *builder) unary(n, part *ast.Node) *node {
 }
 
 // narrowed makes what an operation comes to a value of its type, since all are done in 64 bits.
-func (b *builder) narrowed(n *ast.Node, e *node) *node {
+func (b *builder) narrowed(n *ast.Node, e *core.Node) *core.Node {
 	return converted(e, extension(b.checked.TypeOf(n), "long"))
 }
 
-func (b *builder) binary(n, left, right *ast.Node) *node {
+func (b *builder) binary(n, left, right *ast.Node) *core.Node {
 	if target, isPointer := types.Elem(b.checked.TypeOf(n)); isPointer {
 		if isInteger(b.checked.TypeOf(left)) {
 			return b.turned(left, right, target)
@@ -174,9 +175,9 @@ func (b *builder) binary(n, left, right *ast.Node) *node {
 	first, second := b.value(left), b.value(right)
 	switch n.Op() {
 	case "&&":
-		return of(both, first, second)
+		return of(core.Both, first, second)
 	case "||":
-		return of(either, first, second)
+		return of(core.Either, first, second)
 	}
 	op := operation(n.Op())
 	e := two(op, first, second)
@@ -187,12 +188,12 @@ func (b *builder) binary(n, left, right *ast.Node) *node {
 }
 
 // turned makes an integer and a pointer a sum. The integer is evaluated ahead of the pointer, but multiplied behind it: that may be stuck, and what the pointer does must have been done. So it is held in a variable, which another one within the pointer must not use.
-func (b *builder) turned(count, pointer *ast.Node, typ string) *node {
+func (b *builder) turned(count, pointer *ast.Node, typ string) *core.Node {
 	first := b.value(count)
 	held := b.vars + b.held
 	b.held++
 	b.spare = max(b.spare, b.held)
-	sum := b.step(api.Add, b.value(pointer), the(variable, held), typ)
+	sum := b.step(api.Add, b.value(pointer), the(core.Variable, held), typ)
 	b.held--
-	return &node{kind: let, n: int64(held), parts: []*node{first, sum}}
+	return the(core.Let, held, first, sum)
 }
