@@ -4,19 +4,13 @@ import (
 	"strconv"
 	"strings"
 
-	"plumbob/api"
+	"plumbob/words"
 )
 
 // kindNames has the words by which nodes are told.
 var kindNames = [...]string{
 	Variable: "v", Local: "local", Global: "global", Load: "load", Both: "both", Either: "either", And: "&&", Or: "||", Input: "in", Call: "call", Let: "let", Keep: "keep",
 	Block: "block", Set: "set", Store: "store", Choice: "if", Loop: "while", Breaking: "break", Continuing: "continue", Answer: "return", Output: "out", Alone: "do",
-}
-
-var operationNames = [...]string{
-	api.Neg: "neg", api.Not: "not", api.Ext8: "ext8", api.Ext32: "ext32",
-	api.Add: "add", api.Sub: "sub", api.Mul: "mul", api.Div: "div", api.Mod: "mod", api.And: "and", api.Or: "or", api.Xor: "xor", api.Shl: "shl", api.Shr: "shr",
-	api.Eq: "eq", api.Ne: "ne", api.Lt: "lt", api.Le: "le", api.Gt: "gt", api.Ge: "ge",
 }
 
 // teller tells a program: a line for each global, function and statement, each expression with its operation first.
@@ -90,9 +84,9 @@ func (t *teller) head(n *Node) string {
 	case Load, Store:
 		return kindNames[n.Kind] + strconv.Itoa(n.Op) + offset(n.K)
 	case Unary, Binary:
-		return operationNames[n.Op]
+		return words.Operation(n.Op)
 	case Fixed:
-		return operationNames[n.Op] + mark(n.K)
+		return words.Operation(n.Op) + mark(n.K)
 	case Call:
 		return kindNames[Call] + " " + t.functions[n.N].Name
 	}

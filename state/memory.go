@@ -27,11 +27,23 @@ func (s *State) reach(at api.Val) bool {
 	return true
 }
 
+// Block makes a block, of no bytes too, and tells its number.
+func (s *State) Block(size int) (int, bool) {
+	block, e := s.memory.Alloc(size)
+	if e != api.OK {
+		return 0, s.End(api.Stuck)
+	}
+	return block, true
+}
+
+// Free frees one.
+func (s *State) Free(block int) { s.memory.Free(block) }
+
 // Globals makes the blocks of all globals, of such sizes, and tells the pointers to them.
 func (s *State) Globals(sizes []int) ([]api.Val, bool) {
 	var l []api.Val
 	for _, size := range sizes {
-		block, ok := s.lay(size)
+		block, ok := s.Block(size)
 		if !ok {
 			return nil, false
 		}
@@ -46,11 +58,7 @@ func (s *State) lay(size int) (int, bool) {
 	if size == 0 {
 		return 0, true
 	}
-	block, e := s.memory.Alloc(size)
-	if e != api.OK {
-		return 0, s.End(api.Stuck)
-	}
-	return block, true
+	return s.Block(size)
 }
 
 // Frame is the memory of a call.
@@ -74,8 +82,8 @@ func (s *State) Enter(size, cut int) (Frame, bool) {
 
 // Leave frees it.
 func (s *State) Leave(f Frame) {
-	s.memory.Free(f.low)
-	s.memory.Free(f.high)
+	s.Free(f.low)
+	s.Free(f.high)
 }
 
 // At tells the pointer to a byte of it.

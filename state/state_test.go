@@ -108,3 +108,27 @@ func TestMemory(t *testing.T) {
 		t.Errorf("Enter: a block above MaxSize")
 	}
 }
+
+// TestBlock: of no bytes one is made, too; freed, it can't be reached.
+func TestBlock(t *testing.T) {
+	s := New(nil, 1)
+	globals, ok := s.Globals([]int{0, 8})
+	if !ok || globals[0] != val.At(1, 0) || globals[1] != val.At(2, 0) {
+		t.Errorf("Globals: %v", globals)
+	}
+	for want, size := range []int{0, 8, 0} {
+		if block, ok := s.Block(size); !ok || block != want+3 {
+			t.Errorf("Block(%d): %d, want %d", size, block, want+3)
+		}
+	}
+	if !s.Store(8, val.At(4, 0), val.Of(1)) {
+		t.Errorf("Store: %+v", s.Run)
+	}
+	s.Free(4)
+	if s.Store(8, val.At(4, 0), val.Of(1)) || s.Run.Kind != api.Stuck {
+		t.Errorf("Store to what is freed: %+v", s.Run)
+	}
+	if _, ok := s.Block(-1); ok {
+		t.Errorf("Block: one of -1 bytes")
+	}
+}

@@ -1,0 +1,50 @@
+package graphs
+
+import (
+	"math/rand"
+	"testing"
+
+	"plumbob/api"
+	"plumbob/rtl"
+)
+
+func made(seed int64, slips int) rtl.Prog {
+	return New(rand.New(rand.NewSource(seed)).Intn, slips).Program()
+}
+
+// TestPrograms: all are well formed; of the same choices they are the same; all together have each Op; and without slips none is Stuck.
+func TestPrograms(t *testing.T) {
+	seen := map[int]int{}
+	ends := map[int]int{}
+	for seed := range int64(2000) {
+		slips := []int{0, 12, 60}[seed%3]
+		p := made(seed, slips)
+		if !rtl.Good(p) {
+			t.Fatalf("not well formed: %s", rtl.Text(p))
+		}
+		if rtl.Text(made(seed, slips)) != rtl.Text(p) {
+			t.Fatalf("%s, and once more it is another", rtl.Text(p))
+		}
+		for _, f := range p.Funcs {
+			for _, i := range f.Code {
+				seen[i.Op]++
+			}
+		}
+		r, e := rtl.Run(p, make([]int64, len(p.Funcs[p.Main].Params)), []int64{1, 2, 3}, 10000)
+		if e != api.OK || slips == 0 && r.Kind != api.Halt {
+			t.Fatalf("%s: it ends with %d", rtl.Text(p), r.Kind)
+		}
+		if slips > 0 {
+			ends[r.Kind]++
+		}
+	}
+	for op := rtl.Nop; op <= rtl.Out; op++ {
+		if seen[op] < 200 {
+			t.Errorf("%d instructions with Op %d", seen[op], op)
+		}
+	}
+	t.Logf("ends %v, instructions %v", ends, seen)
+	if ends[api.Halt] < 400 || ends[api.Stuck] < 200 || ends[api.Fuel] < 1 {
+		t.Errorf("with slips they end %v", ends)
+	}
+}
