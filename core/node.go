@@ -19,7 +19,7 @@ const (
 	Or                       // as Either; likewise
 	Input                    // comes to the number that comes in
 	Call                     // comes to what the function N answers; its parts are the arguments
-	Let                      // gives its first part to the variable N; comes to its second
+	Let                      // gives its first part to the variable N, which nothing but its second reads, and no other Let there gives; comes to its second
 	Keep                     // comes to its part
 
 	Block      // executes its parts

@@ -48,3 +48,29 @@ func TestPrograms(t *testing.T) {
 		t.Errorf("with slips they end %v", ends)
 	}
 }
+
+// TestWild: all are well formed; of the same choices they are the same; more Nops come, if they are asked for; and any number may stand where nobody asks.
+func TestWild(t *testing.T) {
+	count := map[int]int{}
+	for seed := range int64(600) {
+		nops := int(seed%3) * 3
+		p := Wild(rand.New(rand.NewSource(seed)).Intn, nops)
+		if !rtl.Good(p) || rtl.Text(Wild(rand.New(rand.NewSource(seed)).Intn, nops)) != rtl.Text(p) {
+			t.Fatalf("%s", rtl.Text(p))
+		}
+		any := Scrambled(rand.New(rand.NewSource(seed)).Intn, p)
+		if !rtl.Good(any) || rtl.Text(any) == rtl.Text(p) {
+			t.Fatalf("%sscrambled: %s", rtl.Text(p), rtl.Text(any))
+		}
+		for _, f := range p.Funcs {
+			for _, i := range f.Code {
+				if i.Op == rtl.Nop {
+					count[nops]++
+				}
+			}
+		}
+	}
+	if count[0] < 100 || count[3] < 2*count[0] || count[6] < 3*count[3]/2 {
+		t.Errorf("Nops: %v", count)
+	}
+}

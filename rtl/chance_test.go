@@ -4,7 +4,6 @@ import (
 	"fmt"
 	"math/rand"
 	"slices"
-	"strings"
 	"testing"
 
 	"plumbob/api"
@@ -21,36 +20,6 @@ func somes(r *rand.Rand, count int) []int64 {
 		l = append(l, edges[r.Intn(len(edges))])
 	}
 	return l
-}
-
-// unnamed has the fields that the table does not name, by Op.
-var unnamed = map[int]string{
-	rtl.Nop: "Sub A B D K Args T", rtl.Const: "Sub A B Args T", rtl.Copy: "Sub B K Args T", rtl.Un: "B K Args T", rtl.Bin: "Args T", rtl.Load: "B Args T", rtl.Store: "D Args T", rtl.Global: "A B Args T",
-	rtl.Frame: "Sub A B Args T", rtl.Call: "A B K T", rtl.Cond: "D Args", rtl.Return: "Sub B D K Args S T", rtl.In: "Sub A B K Args T", rtl.Out: "Sub B D K Args T",
-}
-
-// scrambled has any number in the fields that nobody asks.
-func scrambled(r *rand.Rand, p rtl.Prog) rtl.Prog {
-	p.Funcs = slices.Clone(p.Funcs)
-	for n := range p.Funcs {
-		code := slices.Clone(p.Funcs[n].Code)
-		p.Funcs[n].Code = code
-		for at := range code {
-			i := &code[at]
-			for _, field := range strings.Fields(unnamed[i.Op]) {
-				number := int(edges[r.Intn(len(edges))])
-				switch field {
-				case "K":
-					i.K = int64(number)
-				case "Args":
-					i.Args = []int{number, -5}
-				default:
-					*map[string]*int{"Sub": &i.Sub, "A": &i.A, "B": &i.B, "D": &i.D, "S": &i.S, "T": &i.T}[field] = number
-				}
-			}
-		}
-	}
-	return p
 }
 
 // same asks that a run is as the model's.
@@ -76,7 +45,7 @@ func TestRunByChance(t *testing.T) {
 			for range 5 {
 				same(t, p, args, world, r.Intn(last.Steps+2))
 			}
-			any := scrambled(r, p)
+			any := graphs.Scrambled(r.Intn, p)
 			if other, e := rtl.Run(any, args, world, 3000); e != api.OK || !trace.Same(other, last) || !trace.Leaks(other, last) || other.Steps != last.Steps {
 				t.Errorf("P12.1: %swith any number where none is asked: %.3000v (%d), want %.3000v", rtl.Text(any), other, e, last)
 			}
@@ -93,7 +62,7 @@ func TestWildByChance(t *testing.T) {
 	ends, deep := map[int]int{}, 0
 	for seed := range int64(20000) {
 		r := rand.New(rand.NewSource(seed))
-		p := wild(r)
+		p := graphs.Wild(r.Intn, 0)
 		if !rtl.Good(p) {
 			t.Fatalf("P12.1: Good of %s", rtl.Text(p))
 		}
@@ -107,46 +76,6 @@ func TestWildByChance(t *testing.T) {
 	if ends[api.Halt] < 500 || ends[api.Stuck] < 5000 || ends[api.Fuel] < 500 || deep < 1000 {
 		t.Errorf("P12.1: the wild programs end %v, %d with more than 20 steps", ends, deep)
 	}
-}
-
-func wild(r *rand.Rand) rtl.Prog {
-	p := rtl.Prog{Globals: []int{8, 0, 24}, Main: r.Intn(2)}
-	params := [][]int{{1}, {2, 0}}
-	for n := range params {
-		f := rtl.Func{Name: "w", Params: params[n], Regs: 3, Frame: 8 * r.Intn(3), Code: make([]rtl.Instr, 3+r.Intn(9))}
-		f.Entry = r.Intn(len(f.Code))
-		for at := range f.Code {
-			f.Code[at] = wildInstr(r, f)
-		}
-		p.Funcs = append(p.Funcs, f)
-	}
-	return p
-}
-
-func wildInstr(r *rand.Rand, f rtl.Func) rtl.Instr {
-	i := rtl.Instr{Op: 1 + r.Intn(14), A: r.Intn(3), B: r.Intn(4) - 1, D: r.Intn(3), K: int64(r.Intn(12) - 2), S: r.Intn(len(f.Code)), T: r.Intn(len(f.Code))}
-	switch i.Op {
-	case rtl.Un:
-		i.Sub = 1 + r.Intn(4)
-	case rtl.Bin:
-		i.Sub = 11 + r.Intn(16)
-	case rtl.Cond:
-		i.Sub = 21 + r.Intn(6)
-	case rtl.Load, rtl.Store:
-		i.Sub, i.B = []int{1, 4, 8}[r.Intn(3)], r.Intn(3)
-	case rtl.Global:
-		i.Sub, i.K = 2*r.Intn(2), int64(r.Intn(9))
-	case rtl.Frame:
-		i.K = int64(r.Intn(f.Frame + 1))
-	case rtl.Call:
-		i.Sub, i.D = r.Intn(2), r.Intn(4)-1
-		for range i.Sub + 1 {
-			i.Args = append(i.Args, r.Intn(3))
-		}
-	case rtl.Return:
-		i.A = r.Intn(4) - 1
-	}
-	return i
 }
 
 // roomy has lists with room behind them, and tells whether one of them, or what stands behind it, was changed.

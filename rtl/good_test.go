@@ -77,6 +77,20 @@ func fitsAll(i Instr) bool {
 	return ok
 }
 
+// fitsAlone tells whether all holds that is asked of an instruction where other functions and globals are not known.
+func fitsAlone(i Instr) bool {
+	switch i.Op {
+	case Global:
+		i.Sub, i.K = 0, 0
+	case Call:
+		if slices.ContainsFunc(i.Args, func(r int) bool { return r < 0 || r >= regs }) {
+			return false
+		}
+		i.Sub, i.Args = 1, nil
+	}
+	return fitsAll(i)
+}
+
 // numbers are those at the edges of all that is asked.
 var numbers = []int{lowest, -3, -2, -1, 0, 1, 2, 3, 4, 5, 7, 8, 9, 10, 11, 15, 16, 17, 20, 21, 26, 27, 99, 5000, 1 << 32, 1<<32 + 1, highest}
 
@@ -104,6 +118,9 @@ func good(t *testing.T, i Instr) {
 	want := fitsAll(i)
 	if got := Good(p); got != want {
 		t.Errorf("P12.1: Good with %+v: %t", i, got)
+	}
+	if got := Right(p.Funcs[0]); got != fitsAlone(i) {
+		t.Errorf("P13.2: Right with %+v: %t", i, got)
 	}
 	r, e := Run(p, nil, nil, 10)
 	if want && (e != api.OK || r.Kind != api.Stuck) || !want && (e != api.EARG || fmt.Sprint(r) != fmt.Sprint(api.Run{})) {
@@ -242,6 +259,21 @@ func TestGoodProgram(t *testing.T) {
 		}
 		if _, e := Run(p, args, nil, 5); (e == api.OK) != c.want || e != api.OK && e != api.EARG {
 			t.Errorf("P12.1: Run of a program with %s: %d", c.name, e)
+		}
+	}
+}
+
+// TestFits has a function's sizes at their edges; whether it is well formed else is not asked.
+func TestFits(t *testing.T) {
+	for _, c := range []struct {
+		f    Func
+		want bool
+	}{
+		{Func{}, true}, {Func{Regs: 5000, Frame: 65536, Code: make([]Instr, 5000)}, true}, {Func{Entry: -7, Params: []int{9, 9}}, true},
+		{Func{Regs: 5001}, false}, {Func{Regs: -1}, false}, {Func{Frame: 65537}, false}, {Func{Frame: -1}, false}, {Func{Code: make([]Instr, 5001)}, false}, {Func{Regs: highest}, false}, {Func{Frame: lowest}, false},
+	} {
+		if Fits(c.f) != c.want {
+			t.Errorf("P13.1: Fits with %d registers, %d bytes and %d nodes: %t", c.f.Regs, c.f.Frame, len(c.f.Code), !c.want)
 		}
 	}
 }

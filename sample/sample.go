@@ -1,4 +1,4 @@
-// Package sample: sources for the tests of all levels, made by choices that are handed in.
+// Package sample: sources for the tests of all levels: some that are written here, and others made by choices that are handed in.
 package sample
 
 import (
