@@ -74,3 +74,37 @@ func TestWild(t *testing.T) {
 		t.Errorf("Nops: %v", count)
 	}
 }
+
+// TestCases: those that are right are so, the others not; all have their own names.
+func TestCases(t *testing.T) {
+	seen := map[string]int{}
+	count := map[bool]int{}
+	for _, c := range Cases() {
+		if rtl.Right(c.Func) != c.IsRight {
+			t.Errorf("%s: it is right: %t", c.Name, !c.IsRight)
+		}
+		seen[c.Name]++
+		count[c.IsRight]++
+		if seen[c.Name] > 1 {
+			t.Errorf("%s: twice", c.Name)
+		}
+	}
+	if count[true] < 80 || count[false] < 200 {
+		t.Errorf("right, wrong: %v", count)
+	}
+}
+
+// TestBroken: many are right, and many are not; of the same choices they are the same.
+func TestBroken(t *testing.T) {
+	count := map[bool]int{}
+	for seed := range int64(1000) {
+		f, g := Broken(rand.New(rand.NewSource(seed)).Intn), Broken(rand.New(rand.NewSource(seed)).Intn)
+		if a, b := rtl.Text(rtl.Prog{Funcs: []rtl.Func{f}}), rtl.Text(rtl.Prog{Funcs: []rtl.Func{g}}); a != b {
+			t.Fatalf("%s, and once more it is another: %s", a, b)
+		}
+		count[rtl.Right(f)]++
+	}
+	if count[true] < 200 || count[false] < 200 {
+		t.Errorf("right, wrong: %v", count)
+	}
+}

@@ -142,3 +142,17 @@ func TestEachKeepsNothing(t *testing.T) {
 		t.Errorf("R4: Uses changed what stands behind the list")
 	}
 }
+
+// TestTarget has the register that each Op writes: the table's D, unless it is -1.
+func TestTarget(t *testing.T) {
+	for op := -1; op <= 16; op++ {
+		named := strings.Fields(asked[op])
+		writes := slices.Contains(named, "D") || slices.Contains(named, "d")
+		for _, d := range []int{lowest, -1, 0, 5, highest} {
+			got, ok := Target(Instr{Op: op, A: 1, B: 2, D: d, Args: []int{3}})
+			if want := writes && d != -1; ok != want || want && got != d || !want && got != 0 {
+				t.Errorf("P12.1: Target of Op %d with D %d: %d, %t", op, d, got, ok)
+			}
+		}
+	}
+}

@@ -12,8 +12,8 @@ const (
 	optional              // a register, or none
 )
 
-// isRead tells whether what stands there is a register that is read.
-func (p place) isRead(r int) bool { return p != unnamed && r != none }
+// isRegister tells whether what stands there is a register that is read or written.
+func (p place) isRegister(r int) bool { return p != unnamed && r != none }
 
 // lacks tells whether a register that must be there is none.
 func (p place) lacks(r int) bool { return p == needed && r == none }

@@ -170,66 +170,8 @@ func refuses(t *testing.T, what string, f rtl.Func, want bool) {
 }
 
 func TestRefusals(t *testing.T) {
-	row := func(i rtl.Instr) rtl.Func {
-		i.S = 1
-		return function(0, i, leave)
-	}
-	many := func(count int) []rtl.Instr { return slices.Repeat([]rtl.Instr{leave}, count) }
-	far := []int{-1 << 63, -2, 3, 1<<63 - 1}
-	for _, r := range append(far, -1) {
-		for name, i := range map[string]rtl.Instr{
-			"A of Copy": {Op: rtl.Copy, A: r}, "D of Copy": {Op: rtl.Copy, D: r}, "A of Un": {Op: rtl.Un, Sub: 1, A: r}, "A of Bin": {Op: rtl.Bin, Sub: 11, A: r}, "D of Bin": {Op: rtl.Bin, Sub: 11, D: r}, "A of Load": {Op: rtl.Load, Sub: 4, A: r}, "D of Load": {Op: rtl.Load, Sub: 4, D: r},
-			"A of Store": {Op: rtl.Store, Sub: 4, A: r}, "B of Store": {Op: rtl.Store, Sub: 4, B: r}, "D of Const": {Op: rtl.Const, D: r}, "D of Un": {Op: rtl.Un, Sub: 1, D: r}, "D of Global": {Op: rtl.Global, D: r}, "D of Frame": {Op: rtl.Frame, D: r}, "D of In": {Op: rtl.In, D: r}, "A of Out": {Op: rtl.Out, A: r}, "A of Cond": {Op: rtl.Cond, Sub: 21, A: r},
-			"an argument": {Op: rtl.Call, Args: []int{0, r}, D: -1},
-		} {
-			refuses(t, fmt.Sprint(name, " ", r), row(i), true)
-		}
-		f := function(0, leave)
-		f.Params = []int{0, r}
-		refuses(t, fmt.Sprint("a parameter ", r), f, true)
-	}
-	for _, r := range append(far, -1, 0, 2) {
-		isThere := r >= -1 && r < 3
-		for name, i := range map[string]rtl.Instr{"B of Bin": {Op: rtl.Bin, Sub: 11, B: r}, "D of Call": {Op: rtl.Call, D: r}, "B of Cond": {Op: rtl.Cond, Sub: 21, B: r}} {
-			refuses(t, fmt.Sprint(name, " ", r), row(i), !isThere)
-		}
-		refuses(t, fmt.Sprint("A of Return ", r), function(0, rtl.Instr{Op: rtl.Return, A: r}), !isThere)
-	}
-	for _, n := range []int{-1 << 63, -2, -1, 0, 1, 2, 3, 1<<63 - 1} {
-		isNode := n == 0 || n == 1
-		refuses(t, fmt.Sprint("S ", n), function(1, nop(n), leave), !isNode)
-		refuses(t, fmt.Sprint("S of Cond ", n), function(1, cond(n, 0), leave), !isNode)
-		refuses(t, fmt.Sprint("T of Cond ", n), function(1, cond(0, n), leave), !isNode)
-		refuses(t, fmt.Sprint("the entry ", n), function(n, leave, leave), !isNode)
-		refuses(t, fmt.Sprint("S of Return, T of Nop ", n), function(0, rtl.Instr{Op: rtl.Nop, S: 1, T: n}, rtl.Instr{Op: rtl.Return, A: -1, S: n, T: n}), false)
-	}
-	for sub := -1; sub < 30; sub++ {
-		refuses(t, fmt.Sprint("Un ", sub), row(rtl.Instr{Op: rtl.Un, Sub: sub}), sub < 1 || sub > 4)
-		refuses(t, fmt.Sprint("Bin ", sub), row(rtl.Instr{Op: rtl.Bin, Sub: sub}), sub < 11 || sub > 26)
-		refuses(t, fmt.Sprint("Cond ", sub), row(rtl.Instr{Op: rtl.Cond, Sub: sub}), sub < 21 || sub > 26)
-		refuses(t, fmt.Sprint("Load ", sub), row(rtl.Instr{Op: rtl.Load, Sub: sub}), sub != 1 && sub != 4 && sub != 8)
-		refuses(t, fmt.Sprint("Store ", sub), row(rtl.Instr{Op: rtl.Store, Sub: sub}), sub != 1 && sub != 4 && sub != 8)
-		// Calls and globals are not asked.
-		refuses(t, fmt.Sprint("a call of ", sub), row(rtl.Instr{Op: rtl.Call, Sub: sub * 1000, Args: make([]int, sub+1), D: -1}), false)
-		refuses(t, fmt.Sprint("the global ", sub), row(rtl.Instr{Op: rtl.Global, Sub: sub * 1000, K: int64(sub) << 40}), false)
-		refuses(t, fmt.Sprint("a byte of the frame ", sub), row(rtl.Instr{Op: rtl.Frame, K: int64(sub)}), sub < 0 || sub > 8)
-	}
-	for _, op := range []int{-1 << 63, -1, 0, 15, 1<<63 - 1} {
-		refuses(t, fmt.Sprint("Op ", op), row(rtl.Instr{Op: op}), true)
-		refuses(t, fmt.Sprint("an Op that is not reached ", op), function(0, leave, rtl.Instr{Op: op}), true)
-	}
-	for _, c := range []struct {
-		name string
-		f    rtl.Func
-		want bool
-	}{
-		{"nothing", rtl.Func{}, true}, {"no nodes", function(0), true}, {"nothing but a node", rtl.Func{Code: []rtl.Instr{leave}}, false}, {"parameters alike", rtl.Func{Params: []int{1, 0, 1}, Regs: 2, Code: many(1)}, true},
-		{"-1 registers", rtl.Func{Regs: -1, Code: many(1)}, true}, {"5000 registers", rtl.Func{Regs: 5000, Code: many(1)}, false}, {"5001 registers", rtl.Func{Regs: 5001, Code: many(1)}, true}, {"the most registers", rtl.Func{Regs: 1<<63 - 1, Code: many(1)}, true},
-		{"5000 nodes", rtl.Func{Code: many(5000)}, false}, {"5001 nodes", rtl.Func{Code: many(5001)}, true},
-		{"a frame of -1", rtl.Func{Frame: -1, Code: many(1)}, true}, {"a frame of 65536", rtl.Func{Frame: 65536, Code: many(1)}, false}, {"a frame of 65537", rtl.Func{Frame: 65537, Code: many(1)}, true},
-		{"a register that is none, where it is not reached", function(0, leave, rtl.Instr{Op: rtl.Const, D: 3}), true},
-	} {
-		refuses(t, c.name, c.f, c.want)
+	for _, c := range graphs.Cases() {
+		refuses(t, c.Name, c.Func, !c.IsRight)
 	}
 }
 
@@ -350,34 +292,8 @@ func TestCompactByChance(t *testing.T) {
 // TestRefusalsByChance has functions with some fields of any kind.
 func TestRefusalsByChance(t *testing.T) {
 	refused := 0
-	numbers := []int{-1 << 63, -2, -1, 0, 1, 2, 3, 4, 8, 11, 15, 21, 26, 27, 1<<63 - 1}
 	for seed := range int64(20000) {
-		r := rand.New(rand.NewSource(seed))
-		any := func() int { return numbers[r.Intn(len(numbers))] }
-		f := graphs.Wild(r.Intn, 2).Funcs[r.Intn(2)]
-		i := &f.Code[r.Intn(len(f.Code))]
-		switch r.Intn(10) {
-		case 0:
-			i.Op = any()
-		case 1:
-			i.Sub = any()
-		case 2:
-			i.A = any()
-		case 3:
-			i.B = any()
-		case 4:
-			i.D = any()
-		case 5:
-			i.K = int64(any())
-		case 6:
-			i.Args = []int{any(), any()}
-		case 7:
-			i.S, i.T = any(), any()
-		case 8:
-			f.Entry = any()
-		case 9:
-			f.Regs, f.Frame = any(), any()
-		}
+		f := graphs.Broken(rand.New(rand.NewSource(seed)).Intn)
 		isWrong := !byItself(f)
 		refuses(t, "any number", f, isWrong)
 		if isWrong {
