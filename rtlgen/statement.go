@@ -54,7 +54,8 @@ func (w *writer) loop(n *core.Node, next int) int {
 	w.after, w.again = next, head
 	body := w.statement(n.Parts[1], head)
 	w.after, w.again = after, again
-	w.code[head].S = w.branch(n.Parts[0], w.spare, body, next)
+	test := w.branch(n.Parts[0], w.spare, body, next)
+	w.code[head].S = test // in a statement of its own, since writing the test may move the code
 	return head
 }
 
