@@ -12,30 +12,6 @@ import (
 	"plumbob/val"
 )
 
-// reckoner makes functions in which much is known: few registers, and mostly what reckons with small numbers.
-func reckoner(r *rand.Rand, nodes, regs int) rtl.Func {
-	code := make([]rtl.Instr, nodes)
-	for n := range code {
-		i := rtl.Instr{Op: rtl.Nop, A: r.Intn(regs), B: r.Intn(regs+1) - 1, D: r.Intn(regs), K: int64(r.Intn(2)), S: r.Intn(nodes), T: r.Intn(nodes)}
-		switch r.Intn(12) {
-		case 0, 1, 2, 3:
-			i.Op = rtl.Const
-		case 4:
-			i.Op = rtl.Copy
-		case 5:
-			i.Op, i.Sub = rtl.Un, api.Neg+r.Intn(4)
-		case 6, 7:
-			i.Op, i.Sub = rtl.Bin, api.Add+r.Intn(16)
-		case 8, 9:
-			i.Op, i.Sub = rtl.Cond, api.Eq+r.Intn(6)
-		case 10:
-			i.Op = []int{rtl.In, rtl.Call, rtl.Return}[r.Intn(3)]
-		}
-		code[n] = i
-	}
-	return entered(function(regs, code...), r.Intn(nodes))
-}
-
 // byChance makes functions of every kind.
 func byChance(seed int64) []rtl.Func {
 	r := rand.New(rand.NewSource(seed))
@@ -47,7 +23,7 @@ func byChance(seed int64) []rtl.Func {
 	case 2:
 		return graphs.Scrambled(r.Intn, graphs.Wild(r.Intn, int(seed%4))).Funcs
 	}
-	return []rtl.Func{reckoner(r, 2+r.Intn(11), 1+r.Intn(4))}
+	return []rtl.Func{graphs.Reckoner(r.Intn, 2+r.Intn(11), 1+r.Intn(4))}
 }
 
 // TestByChance holds what is answered against the second reading, and asks that it follows from the neighbours'.

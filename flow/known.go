@@ -6,6 +6,7 @@ import (
 	"plumbob/api"
 	"plumbob/rtl"
 	"plumbob/val"
+	"plumbob/walk"
 )
 
 // none stands where there is no register, or no node.
@@ -25,7 +26,7 @@ type knower struct {
 type loss struct{ node, register int }
 
 func known(f rtl.Func) *knower {
-	k := &knower{code: f.Code, next: forward(f.Code), reached: make([]bool, len(f.Code))}
+	k := &knower{code: f.Code, next: walk.Forward(f.Code), reached: make([]bool, len(f.Code))}
 	for range f.Code {
 		k.facts = append(k.facts, make([]Fact, f.Regs))
 	}
@@ -93,7 +94,7 @@ func (k *knower) ways(n int) []int {
 	if k.code[n].Op != rtl.Cond {
 		return l
 	}
-	answer := binary(k.code[n], k.facts[n])
+	answer := result(k.code[n], k.facts[n])
 	switch {
 	case !answer.Known:
 		return l
@@ -120,23 +121,31 @@ func (k *knower) behind(n int) iter.Seq2[int, Fact] {
 	}
 }
 
-// result is what is known of what an instruction writes.
+// result is what is known of what an instruction writes; of a branch, of what its comparison comes to.
 func result(i rtl.Instr, facts []Fact) Fact {
 	switch i.Op {
 	case rtl.Const:
 		return Fact{true, i.K}
 	case rtl.Copy:
-		return facts[i.A]
+		return of(facts, i.A)
 	case rtl.Un:
 		return unary(i, facts)
-	case rtl.Bin:
+	case rtl.Bin, rtl.Cond:
 		return binary(i, facts)
 	}
 	return Fact{}
 }
 
+// of is what is known of a register: nothing, if there is none.
+func of(facts []Fact, r int) Fact {
+	if !within(r, len(facts)-1) {
+		return Fact{}
+	}
+	return facts[r]
+}
+
 func unary(i rtl.Instr, facts []Fact) Fact {
-	a := facts[i.A]
+	a := of(facts, i.A)
 	if !a.Known {
 		return Fact{}
 	}
@@ -144,9 +153,9 @@ func unary(i rtl.Instr, facts []Fact) Fact {
 }
 
 func binary(i rtl.Instr, facts []Fact) Fact {
-	a, b := facts[i.A], Fact{true, i.K}
+	a, b := of(facts, i.A), Fact{true, i.K}
 	if i.B != none {
-		b = facts[i.B]
+		b = of(facts, i.B)
 	}
 	if !a.Known || !b.Known {
 		return Fact{}

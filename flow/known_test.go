@@ -162,3 +162,50 @@ func TestBranchesOfNothingElse(t *testing.T) {
 		}
 	}
 }
+
+// TestResult holds what is known of what an instruction comes to against the second reading.
+func TestResult(t *testing.T) {
+	facts := []Fact{{true, 7}, {}, {true, 0}, {true, lowest}, {true, -1}}
+	for _, i := range allInstructions(len(facts)) {
+		want := Fact{}
+		switch i.Op {
+		case rtl.Const, rtl.Copy, rtl.Un, rtl.Bin:
+			want = reckoned(i, facts)
+		case rtl.Cond:
+			i.Op = rtl.Bin
+			want = reckoned(i, facts)
+			i.Op = rtl.Cond
+		}
+		if got := Result(i, facts); got != want {
+			t.Errorf("P14.1: what is known of %+v with %v: %v, want %v", i, facts, got, want)
+		}
+	}
+	// Of what there is not nothing is known.
+	for op := -1; op < 17; op++ {
+		for _, r := range []int{lowest, -2, -1, 5, highest} {
+			for _, b := range []int{-1, 0, r} {
+				for _, facts := range [][]Fact{nil, facts} {
+					i := rtl.Instr{Op: op, Sub: api.Eq, A: r, B: b, D: r, Args: []int{r}, S: r, T: r}
+					if got := Result(i, facts); got.Known && op != rtl.Const {
+						t.Errorf("R1: what is known of %+v: %v", i, got)
+					}
+				}
+			}
+		}
+	}
+}
+
+// allInstructions have each Op with each operation on any of so many registers.
+func allInstructions(regs int) []rtl.Instr {
+	var l []rtl.Instr
+	for op := rtl.Nop; op <= rtl.Out; op++ {
+		for sub := api.Neg; sub <= api.Ge; sub++ {
+			for a := range regs {
+				for b := -1; b < regs; b++ {
+					l = append(l, rtl.Instr{Op: op, Sub: sub, A: a, B: b, K: 3, Args: []int{a}})
+				}
+			}
+		}
+	}
+	return l
+}

@@ -5,6 +5,8 @@ import (
 	"math/rand"
 	"slices"
 	"testing"
+
+	"plumbob/graphs"
 )
 
 // rows gives all rows of so many numbers below a bound.
@@ -49,7 +51,7 @@ func isWithin(a, b [][]int) bool {
 func TestLeastLive(t *testing.T) {
 	greater := 0
 	for seed := range int64(800) {
-		f := reckoner(rand.New(rand.NewSource(seed)), 3, 2)
+		f := graphs.Reckoner(rand.New(rand.NewSource(seed)).Intn, 3, 2)
 		live, _ := Live(f)
 		rows(3, 4, func(row []int) {
 			other := subsets(row)
@@ -73,7 +75,7 @@ func TestLeastLive(t *testing.T) {
 func TestLeastKnown(t *testing.T) {
 	greater := 0
 	for seed := range int64(600) {
-		f := reckoner(rand.New(rand.NewSource(seed)), 3, 2)
+		f := graphs.Reckoner(rand.New(rand.NewSource(seed)).Intn, 3, 2)
 		k := answeredKnown(f)
 		if !sameKnown(k, followsKnown(f, k)) {
 			t.Fatalf("P14.3: Known of %s: %v, it follows %v", dump(f), k, followsKnown(f, k))
@@ -113,7 +115,7 @@ func factOf(x int) Fact {
 func TestLeastDominators(t *testing.T) {
 	lesser := 0
 	for seed := range int64(500) {
-		f := reckoner(rand.New(rand.NewSource(seed)), 3, 1)
+		f := graphs.Reckoner(rand.New(rand.NewSource(seed)).Intn, 3, 1)
 		dominators, _ := Dominators(f)
 		rows(3, 8, func(row []int) {
 			other := subsets(row)

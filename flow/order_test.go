@@ -1,7 +1,6 @@
 package flow
 
 import (
-	"slices"
 	"testing"
 
 	"plumbob/api"
@@ -107,21 +106,5 @@ func TestEach(t *testing.T) {
 	}
 	if count != 4 {
 		t.Errorf("R8: Each, gone through twice at once: %d", count)
-	}
-}
-
-// TestSearchIsLeft: where a search is left, nothing further is met, and it can be gone on with.
-func TestSearchIsLeft(t *testing.T) {
-	s := newSearch([][]int{{1}, nil, {3}, {2}})
-	for n := range s.from(0, 2, 1) {
-		if n == 1 {
-			break
-		}
-	}
-	if !slices.Equal(s.met, []bool{true, true, false, false}) {
-		t.Errorf("P14.1: a search that was left has met %v", s.met)
-	}
-	if l := slices.Collect(s.from(0, 3, 2)); !slices.Equal(l, []int{3, 2}) {
-		t.Errorf("P14.1: a search that is gone on with meets %v", l)
 	}
 }

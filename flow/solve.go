@@ -3,6 +3,8 @@ package flow
 import (
 	"cmp"
 	"slices"
+
+	"plumbob/walk"
 )
 
 // What Solve takes.
@@ -35,9 +37,9 @@ func solved(edges [][2]int, start []int) []int {
 	}
 	slices.SortFunc(falling, func(a, b int) int { return cmp.Compare(start[b], start[a]) })
 	l := make([]int, len(start))
-	along := newSearch(next)
+	along := walk.New(next)
 	for _, first := range falling {
-		for i := range along.from(first) {
+		for i := range along.From(first) {
 			l[i] = start[first]
 		}
 	}

@@ -18,6 +18,7 @@ type writer struct {
 	ints     []int
 	pointers []int
 	counters []int // of the loops that may still be begun within one another
+	reckoned []rtl.Instr
 }
 
 func (m *Maker) function(number int) rtl.Func {
@@ -96,6 +97,28 @@ func (w *writer) point(d int) {
 		i.K = int64(w.pick(most + 1))
 	} else if most >= least {
 		i.K = int64(cell * w.pick(2))
+	}
+	w.reckon(i)
+}
+
+// reckon writes an instruction that may be written again, with another D.
+func (w *writer) reckon(i rtl.Instr) {
+	w.emit(i)
+	w.reckoned = append(w.reckoned, i)
+}
+
+// repeat writes one again: mostly one of the last.
+func (w *writer) repeat() {
+	last := len(w.reckoned)
+	if w.pick(4) > 0 {
+		last = min(last, 5)
+	}
+	i := w.reckoned[len(w.reckoned)-1-w.pick(last)]
+	switch i.Op {
+	case rtl.Global, rtl.Frame:
+		i.D = w.aPointer()
+	default:
+		i.D = w.anInt()
 	}
 	w.emit(i)
 }

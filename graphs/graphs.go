@@ -12,6 +12,7 @@ const (
 type Maker struct {
 	pick  func(int) int // tells a number below the one that it is given
 	slips int           // one of so many choices is made without care; 0: none
+	again int           // one of so many statements reckons what was reckoned before; 0: none
 	made  rtl.Prog
 	heads []head
 }
@@ -25,6 +26,12 @@ type head struct {
 
 // New begins.
 func New(pick func(int) int, slips int) *Maker { return &Maker{pick: pick, slips: slips} }
+
+// Again has one of so many statements reckon what was reckoned before.
+func (m *Maker) Again(every int) *Maker {
+	m.again = every
+	return m
+}
 
 func (m *Maker) slip() bool { return m.slips > 0 && m.pick(m.slips) == 0 }
 

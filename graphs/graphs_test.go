@@ -49,6 +49,55 @@ func TestPrograms(t *testing.T) {
 	}
 }
 
+// reckonings counts the instructions of a program that reckon the same as another one of their function.
+func reckonings(p rtl.Prog) int {
+	count := 0
+	for _, f := range p.Funcs {
+		seen := map[[5]int]int{}
+		for _, i := range f.Code {
+			switch i.Op {
+			case rtl.Un, rtl.Bin, rtl.Load, rtl.Global, rtl.Frame:
+				key := [5]int{i.Op, i.Sub, i.A, i.B, int(i.K)}
+				if seen[key] > 0 {
+					count++
+				}
+				seen[key]++
+			}
+		}
+	}
+	return count
+}
+
+// TestAgain: they are well formed, none is Stuck without slips, and much is reckoned again.
+func TestAgain(t *testing.T) {
+	again, once := 0, 0
+	for seed := range int64(600) {
+		slips := int(seed%2) * 40
+		p := New(rand.New(rand.NewSource(seed)).Intn, slips).Again(2).Program()
+		r, e := rtl.Run(p, make([]int64, len(p.Funcs[p.Main].Params)), []int64{1, 2, 3}, 10000)
+		if !rtl.Good(p) || e != api.OK || slips == 0 && r.Kind != api.Halt {
+			t.Fatalf("%s: %d, it ends with %d", rtl.Text(p), e, r.Kind)
+		}
+		again += reckonings(p)
+		once += reckonings(made(seed, slips))
+	}
+	if again < 3*once || again < 3000 {
+		t.Errorf("%d times something is reckoned again, %d times without asking for it", again, once)
+	}
+}
+
+// TestReckoner: all are right, and of the same choices they are the same.
+func TestReckoner(t *testing.T) {
+	for seed := range int64(600) {
+		nodes, regs := 1+int(seed%20), 1+int(seed%5)
+		f, g := Reckoner(rand.New(rand.NewSource(seed)).Intn, nodes, regs), Reckoner(rand.New(rand.NewSource(seed)).Intn, nodes, regs)
+		a, b := rtl.Text(rtl.Prog{Funcs: []rtl.Func{f}}), rtl.Text(rtl.Prog{Funcs: []rtl.Func{g}})
+		if !rtl.Right(f) || len(f.Code) != nodes || f.Regs != regs || a != b {
+			t.Fatalf("%s, and once more: %s", a, b)
+		}
+	}
+}
+
 // TestWild: all are well formed; of the same choices they are the same; more Nops come, if they are asked for; and any number may stand where nobody asks.
 func TestWild(t *testing.T) {
 	count := map[int]int{}

@@ -15,6 +15,10 @@ func (w *writer) statements(count, depth int) {
 }
 
 func (w *writer) statement(depth int) {
+	if w.again > 0 && len(w.reckoned) > 0 && w.pick(w.again) == 0 {
+		w.repeat()
+		return
+	}
 	switch w.pick(18) {
 	case 0:
 		w.point(w.aPointer())
@@ -35,13 +39,13 @@ func (w *writer) statement(depth int) {
 	case 13:
 		w.loop(depth)
 	default:
-		w.emit(w.operation())
+		w.reckon(w.operation())
 	}
 }
 
 func (w *writer) load() {
 	chunk := w.chunk()
-	w.emit(rtl.Instr{Op: rtl.Load, Sub: chunk, A: w.aPointer(), K: w.offset(chunk), D: w.anInt()})
+	w.reckon(rtl.Instr{Op: rtl.Load, Sub: chunk, A: w.aPointer(), K: w.offset(chunk), D: w.anInt()})
 }
 
 func (w *writer) store() {

@@ -117,3 +117,27 @@ func fields(op int) string {
 	}
 	return "AS" // of Out
 }
+
+// Reckoner makes a function in which much is known: few registers, and mostly what reckons with small numbers.
+func Reckoner(pick func(int) int, nodes, regs int) rtl.Func {
+	code := make([]rtl.Instr, nodes)
+	for n := range code {
+		i := rtl.Instr{Op: rtl.Nop, A: pick(regs), B: pick(regs+1) - 1, D: pick(regs), K: int64(pick(2)), S: pick(nodes), T: pick(nodes)}
+		switch pick(12) {
+		case 0, 1, 2, 3:
+			i.Op = rtl.Const
+		case 4:
+			i.Op = rtl.Copy
+		case 5:
+			i.Op, i.Sub = rtl.Un, api.Neg+pick(4)
+		case 6, 7:
+			i.Op, i.Sub = rtl.Bin, api.Add+pick(16)
+		case 8, 9:
+			i.Op, i.Sub = rtl.Cond, api.Eq+pick(6)
+		case 10:
+			i.Op = []int{rtl.In, rtl.Call, rtl.Return}[pick(3)]
+		}
+		code[n] = i
+	}
+	return rtl.Func{Name: "f", Regs: regs, Frame: 16, Entry: pick(nodes), Code: code}
+}

@@ -156,3 +156,29 @@ func TestTarget(t *testing.T) {
 		}
 	}
 }
+
+// TestClone: it is the same, and each list has new memory, the room behind it too.
+func TestClone(t *testing.T) {
+	shared := []int{1, 2, 77}
+	f := Func{Name: "f", Params: shared[:1], Regs: 3, Frame: 8, Entry: 1, Code: []Instr{{Op: Call, Args: shared[:2], S: 1}, {Op: Call, Args: shared[:2], T: 9}, {Op: 99, K: -5}}[:2]}
+	before := fmt.Sprintf("%+v", f)
+	for _, c := range []Func{Clone(f), Clone(Clone(f))} {
+		if got := fmt.Sprintf("%+v", c); got != before {
+			t.Errorf("Clone of %s: %s", before, got)
+		}
+		for _, l := range [][]int{c.Params, c.Code[0].Args, c.Code[1].Args} {
+			l[0] += 10
+			_ = append(l, 5)
+		}
+		if got := fmt.Sprint(c.Params, c.Code[0].Args, c.Code[1].Args); got != "[11] [11 2] [11 2]" {
+			t.Errorf("R4: lists of a clone share memory: %s", got)
+		}
+		clear(c.Code[:cap(c.Code)])
+		if got := fmt.Sprintf("%+v", f); got != before || shared[2] != 77 || f.Code[:3][2].K != -5 {
+			t.Errorf("R4: what is done to a clone changes what it is of: %s, it was %s", got, before)
+		}
+	}
+	if c := Clone(Func{}); len(c.Params) != 0 || len(c.Code) != 0 {
+		t.Errorf("Clone of nothing: %+v", c)
+	}
+}

@@ -89,12 +89,3 @@ func (c *compactor) renumbered(i rtl.Instr) rtl.Instr {
 	i.Args, i.S, i.T = slices.Clone(i.Args), l[0], l[1]
 	return i
 }
-
-// copied is a function as it is, in new memory.
-func copied(f rtl.Func) rtl.Func {
-	f.Params, f.Code = slices.Clone(f.Params), slices.Clone(f.Code)
-	for n := range f.Code {
-		f.Code[n].Args = slices.Clone(f.Code[n].Args)
-	}
-	return f
-}
