@@ -5,7 +5,9 @@ import (
 	"testing"
 
 	"plumbob/api"
+	"plumbob/ltl"
 	"plumbob/rtl"
+	"plumbob/trace"
 )
 
 func made(seed int64, slips int) rtl.Prog {
@@ -121,6 +123,40 @@ func TestWild(t *testing.T) {
 	}
 	if count[0] < 100 || count[3] < 2*count[0] || count[6] < 3*count[3]/2 {
 		t.Errorf("Nops: %v", count)
+	}
+}
+
+// TestLocated: they are well formed as chapter 16 says, and what they are made of stays; with what is moved, and all kept over calls, they do the same.
+func TestLocated(t *testing.T) {
+	slot := func(r int) int { return 16 + r }
+	for seed := range int64(600) {
+		pick := rand.New(rand.NewSource(seed)).Intn
+		for _, p := range []rtl.Prog{made(seed, 40), Wild(pick, 2)} {
+			before := rtl.Text(p)
+			located, renamed := Located(p, slot), Renamed(p, slot)
+			if !ltl.Good(located) || !ltl.Good(renamed) || rtl.Text(p) != before {
+				t.Fatalf("%s\nof %s, it was %s", rtl.Text(located), rtl.Text(p), before)
+			}
+			args := make([]int64, len(p.Funcs[p.Main].Params))
+			want, _ := rtl.Run(p, args, []int64{1, 2, 3}, 1000)
+			got, _ := ltl.Run(located, args, []int64{1, 2, 3}, 20000)
+			if want.Kind != api.Fuel && (!trace.Same(got, want) || !trace.Leaks(got, want)) {
+				t.Fatalf("%s\nof %s: %.1000v, want %.1000v", rtl.Text(located), before, got, want)
+			}
+		}
+	}
+}
+
+// TestRenamed has one written out: what chapter 12's table does not name stays.
+func TestRenamed(t *testing.T) {
+	at := func(r int) int { return []int{3, 0, 18}[r] }
+	f := rtl.Func{Name: "f", Params: []int{2}, Regs: 3, Code: []rtl.Instr{
+		{Op: rtl.Bin, Sub: api.Add, A: 0, B: none, D: 2, K: 7, S: 1}, {Op: rtl.Cond, Sub: api.Eq, A: 1, B: 2, D: 1, S: 2}, {Op: rtl.Call, A: 1, D: none, Args: []int{2}, S: 3}, {Op: rtl.Return, A: none}}}
+	want := rtl.Func{Name: "f", Params: []int{7}, Regs: 19, Code: []rtl.Instr{
+		{Op: rtl.Bin, Sub: api.Add, A: 3, B: none, D: 18, K: 7, S: 1}, {Op: rtl.Cond, Sub: api.Eq, A: 0, B: 18, D: 1, S: 2}, {Op: rtl.Call, A: 1, D: 0, Args: []int{7}, S: 3}, {Op: rtl.Return, A: 0}}}
+	got := Renamed(rtl.Prog{Funcs: []rtl.Func{f}}, at)
+	if text, all := rtl.Text(got), rtl.Text(rtl.Prog{Funcs: []rtl.Func{want}}); text != all {
+		t.Errorf("%s, want %s", text, all)
 	}
 }
 

@@ -8,6 +8,7 @@ import (
 
 	"plumbob/api"
 	"plumbob/graphs"
+	"plumbob/model"
 	"plumbob/rtl"
 	"plumbob/trace"
 )
@@ -26,7 +27,7 @@ func somes(r *rand.Rand, count int) []int64 {
 func same(t *testing.T, p rtl.Prog, args, world []int64, fuel int) api.Run {
 	t.Helper()
 	r, e := rtl.Run(p, args, world, fuel)
-	if want := modelRun(p, args, world, fuel); e != api.OK || fmt.Sprint(r) != fmt.Sprint(want) {
+	if want := model.Run(p, model.Keeping, args, world, fuel); e != api.OK || fmt.Sprint(r) != fmt.Sprint(want) {
 		t.Errorf("P12.1: %s%v, %v with fuel %d: %.3000v (%d), want %.3000v", rtl.Text(p), args, world, fuel, r, e, want)
 	}
 	return r

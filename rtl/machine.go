@@ -13,6 +13,7 @@ const maxCalls = 20000
 type machine struct {
 	state.State
 	program *Prog
+	lost    []int     // the registers that a caller loses at a call
 	globals []api.Val // the pointers to their blocks
 	calls   []call    // under way, the innermost last
 }
@@ -66,10 +67,20 @@ func (m *machine) leave(v api.Val) bool {
 		return false
 	}
 	outer := &m.calls[last-1]
+	outer.lose(m.lost)
 	if outer.target != none {
 		outer.registers[outer.target] = v
 	}
 	return true
+}
+
+// lose makes registers Undef, those that there are.
+func (c *call) lose(registers []int) {
+	for _, r := range registers {
+		if c.function.hasRegister(r) {
+			c.registers[r] = api.Val{}
+		}
+	}
 }
 
 // step executes the innermost call's next instruction.

@@ -236,6 +236,32 @@ func TestFrames(t *testing.T) {
 	runs(t, Prog{Globals: []int{0}, Funcs: []Func{{Regs: 1, Code: row(Instr{Op: Global}, Instr{Op: Load, Sub: 1}, Instr{Op: Return})}}}, nil, nil, "a1+0 stuck 2")
 }
 
+// TestLosing: what is lost of a caller is Undef behind a call, but for the answer's register; what is no register of it is not asked, and nothing else changes.
+func TestLosing(t *testing.T) {
+	p := Prog{Funcs: []Func{
+		{Params: []int{0, 1}, Regs: 3, Code: row(Instr{Op: Call, Sub: 1, Args: []int{0}, D: 2}, Instr{Op: Out, A: 2}, Instr{Op: Out, A: 0}, Instr{Op: Return, A: 1})},
+		{Params: []int{0}, Regs: 4, Code: row(Instr{Op: Copy, A: 0, D: 3}, Instr{Op: Call, Sub: 2, D: none}, Instr{Op: Return, A: 3})},
+		{Code: []Instr{{Op: Return, A: none}}},
+	}}
+	for _, c := range []struct {
+		lost []int
+		want string
+	}{
+		{nil, "o5 o5 c1 c2 halt 8 8"}, {[]int{}, "o5 o5 c1 c2 halt 8 8"}, {[]int{2}, "o5 o5 c1 c2 halt 8 8"}, {[]int{lowest, -1, 4, highest}, "o5 o5 c1 c2 halt 8 8"},
+		{[]int{1}, "o5 o5 c1 c2 stuck 8"}, {[]int{0}, "o5 c1 c2 stuck 7"}, {[]int{3}, "c1 c2 stuck 6"}, {[]int{99, 2, 1, 1}, "o5 o5 c1 c2 stuck 8"},
+	} {
+		before := fmt.Sprint(c.lost)
+		if r, e := RunLosing(p, c.lost, l(5, 8), nil, 100); e != api.OK || told(r) != c.want || fmt.Sprint(c.lost) != before {
+			t.Errorf("P16.1: where %v is lost: %s (%d), want %s", c.lost, told(r), e, c.want)
+		}
+		for _, fuel := range []int{-1, 10000001} {
+			if r, e := RunLosing(p, c.lost, l(5, 8), nil, fuel); e != api.EARG || r.Kind != 0 {
+				t.Errorf("P16.1: where %v is lost, with fuel %d: %s (%d)", c.lost, fuel, told(r), e)
+			}
+		}
+	}
+}
+
 // TestDepth: 20000 calls within one another, main's among them, and no more.
 func TestDepth(t *testing.T) {
 	// f(n) calls itself n times within one another, and answers n.

@@ -1,6 +1,9 @@
-package rtl_test
+// Package model runs graphs for tests, by a second reading of chapters 12 and 16: a call is a call, and a run that is over is left at once.
+package model
 
 import (
+	"maps"
+
 	"plumbob/api"
 	"plumbob/mem"
 	"plumbob/rtl"
@@ -8,9 +11,9 @@ import (
 	"plumbob/val"
 )
 
-// model is a second reading of the chapter: a call is a call, and a run that is over is left at once.
 type model struct {
 	p      rtl.Prog
+	loses  func(register int) bool
 	memory *mem.Mem
 	world  *trace.World
 	fuel   int
@@ -40,9 +43,12 @@ func (m *model) event(kind int, v int64) {
 	m.run.Events = append(m.run.Events, api.Event{Kind: kind, V: v})
 }
 
-// modelRun is what a run of a program that is well formed comes to.
-func modelRun(p rtl.Prog, args, world []int64, fuel int) api.Run {
-	m := &model{p: p, memory: mem.New(), world: trace.New(world), fuel: fuel}
+// Keeping loses no register.
+func Keeping(register int) bool { return false }
+
+// Run is what a run of a program that is well formed comes to. It loses some of a caller's registers at each call.
+func Run(p rtl.Prog, loses func(register int) bool, args, world []int64, fuel int) api.Run {
+	m := &model{p: p, loses: loses, memory: mem.New(), world: trace.New(world), fuel: fuel}
 	m.whole(args)
 	return m.run
 }
@@ -157,5 +163,7 @@ func (m *model) callOf(i rtl.Instr, has map[int]api.Val) api.Val {
 	for _, r := range i.Args {
 		args = append(args, has[r])
 	}
-	return m.call(i.Sub, args)
+	answer := m.call(i.Sub, args)
+	maps.DeleteFunc(has, func(r int, _ api.Val) bool { return m.loses(r) })
+	return answer
 }
