@@ -2,12 +2,12 @@ package ltl
 
 import "plumbob/rtl"
 
-// answer is where what a call answers stands.
-const answer = rax
+// Answer is where what a call answers stands.
+const Answer = rax
 
 // isOverLocations tells whether all that names registers in a function of a well formed program names locations, as chapter 16 has them.
 func isOverLocations(f rtl.Func) bool {
-	if f.Regs < firstSlot || !areParams(f.Params) {
+	if f.Regs < FirstSlot || !areParams(f.Params) {
 		return false
 	}
 	for _, i := range f.Code {
@@ -32,18 +32,18 @@ func areParams(l []int) bool {
 func takes(i rtl.Instr) bool {
 	switch i.Op {
 	case rtl.Call:
-		return areParams(i.Args) && i.D == answer
+		return areParams(i.Args) && i.D == Answer
 	case rtl.Return:
-		return i.A == answer
+		return i.A == Answer
 	}
 	for loc := range rtl.Uses(i) {
-		if isReserved(loc) {
+		if Reserved(loc) {
 			return false
 		}
 	}
 	d, ok := rtl.Target(i)
-	return !ok || !isReserved(d)
+	return !ok || !Reserved(d)
 }
 
-// isReserved tells whether a location is never named: one is the stack's, two are left to the code that is made later.
-func isReserved(loc int) bool { return loc == rsp || loc == r10 || loc == r11 }
+// Reserved tells whether a location is never named: one is the stack's, two are left to the code that is made later.
+func Reserved(loc int) bool { return loc == rsp || loc == r10 || loc == r11 }

@@ -34,3 +34,14 @@ func TestKept(t *testing.T) {
 		}
 	}
 }
+
+func TestReserved(t *testing.T) {
+	for loc := -40; loc < 60; loc++ {
+		if want := loc == 4 || loc == 10 || loc == 11; ltl.Reserved(loc) != want {
+			t.Errorf("P16.1: Reserved(%d): %t", loc, !want)
+		}
+	}
+	if ltl.Answer != 0 || ltl.FirstSlot != 16 {
+		t.Errorf("P16.1: Answer, FirstSlot: %d, %d", ltl.Answer, ltl.FirstSlot)
+	}
+}

@@ -65,3 +65,37 @@ func shapeOf(op int) shape {
 	}
 	return shapes[op]
 }
+
+// renamed is an instruction of this shape over other registers, with the fields that are asked.
+func (s shape) renamed(i Instr, at func(int) int) Instr {
+	made := Instr{Op: i.Op, A: s.a.renamed(i.A, at), B: s.b.renamed(i.B, at), D: s.d.renamed(i.D, at)}
+	if s.sub != anySub {
+		made.Sub = i.Sub
+	}
+	if s.k && (s.b != optional || i.B == none) {
+		made.K = i.K
+	}
+	if s.args {
+		for _, r := range i.Args {
+			made.Args = append(made.Args, at(r))
+		}
+	}
+	if s.s {
+		made.S = i.S
+	}
+	if s.t {
+		made.T = i.T
+	}
+	return made
+}
+
+// renamed is another register, or none; 0, where nobody asks.
+func (p place) renamed(r int, at func(int) int) int {
+	switch {
+	case p.isRegister(r):
+		return at(r)
+	case p == unnamed:
+		return 0
+	}
+	return r
+}
