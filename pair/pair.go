@@ -12,11 +12,12 @@ import (
 // Level runs a program at one level.
 type Level func(args, world []int64, fuel int) api.Run
 
-// Pair is a program at two levels. With fuel f above it is given Times f + More below, where each step takes at least one.
+// Pair is a program at two levels. With fuel f above it is given Times f + More below.
 type Pair struct {
 	Upper, Lower Level
 	Times, More  int
 	Most         int // how much fuel a run above is given, which may not end
+	Leap         int // how many steps above one below may stand for, at most; 0 is 1
 }
 
 // Given is what a run is given.
@@ -36,7 +37,7 @@ func (p Pair) Holds(g Given) (kind int, fault string) {
 	last, far := whole.Steps+1, whole
 	if whole.Kind == api.Fuel {
 		last = p.Most / p.Times
-		far = p.Upper(g.Args, g.World, min(mostFuel, p.fuel(last)))
+		far = p.Upper(g.Args, g.World, min(mostFuel, p.fuel(last)*p.leap()))
 		if far.Kind == api.Stuck {
 			return api.Stuck, ""
 		}
@@ -50,6 +51,8 @@ func (p Pair) Holds(g Given) (kind int, fault string) {
 }
 
 func (p Pair) fuel(above int) int { return p.Times*above + p.More }
+
+func (p Pair) leap() int { return max(1, p.Leap) }
 
 // some gives numbers up to the last one: all, if they are few; the last two always.
 func some(last int) iter.Seq[int] {
@@ -103,7 +106,7 @@ func (p Pair) LeakTheSame(one, two Given) (isAsked bool, fault string) {
 			return false, ""
 		}
 	}
-	last := whole.Steps
+	last := whole.Steps / p.leap()
 	if whole.Kind == api.Halt {
 		last = p.Lower(one.Args, one.World, p.fuel(whole.Steps)).Steps
 	}

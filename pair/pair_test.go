@@ -28,6 +28,11 @@ func counter(times int, change func(*api.Run)) Level {
 
 func of(args ...int64) Given { return Given{Args: args} }
 
+// pairOf gives a run below thrice the fuel, and more.
+func pairOf(upper, lower Level, more, most int) Pair {
+	return Pair{Upper: upper, Lower: lower, Times: 3, More: more, Most: most}
+}
+
 func TestHolds(t *testing.T) {
 	for _, c := range []struct {
 		name    string
@@ -50,7 +55,7 @@ func TestHolds(t *testing.T) {
 		}, false},
 	} {
 		for _, steps := range []int64{9, 1000, 100000} {
-			p := Pair{counter(1, nil), counter(c.times, c.change), 3, 1, 2000}
+			p := pairOf(counter(1, nil), counter(c.times, c.change), 1, 2000)
 			kind, fault := p.Holds(of(steps, 0))
 			if isEnding := steps < 2000; kind == api.Halt != isEnding || (fault == "") != c.isRight && (isEnding || c.name != "without an end" && c.name != "another exit") {
 				t.Errorf("%s, %d steps: %d, %s", c.name, steps, kind, fault)
@@ -58,7 +63,7 @@ func TestHolds(t *testing.T) {
 		}
 	}
 	stuck := counter(1, func(r *api.Run) { r.Kind = api.Stuck })
-	if kind, fault := (Pair{stuck, counter(9, nil), 3, 1, 100}).Holds(of(5, 0)); kind != api.Stuck || fault != "" {
+	if kind, fault := pairOf(stuck, counter(9, nil), 1, 100).Holds(of(5, 0)); kind != api.Stuck || fault != "" {
 		t.Errorf("one that is Stuck: %d, %s", kind, fault)
 	}
 	late := counter(1, func(r *api.Run) {
@@ -66,16 +71,16 @@ func TestHolds(t *testing.T) {
 			r.Kind = api.Stuck
 		}
 	})
-	if kind, fault := (Pair{late, counter(9, nil), 3, 3, 100}).Holds(of(500, 0)); kind != api.Stuck || fault != "" {
+	if kind, fault := pairOf(late, counter(9, nil), 3, 100).Holds(of(500, 0)); kind != api.Stuck || fault != "" {
 		t.Errorf("one that is Stuck at last: %d, %s", kind, fault)
 	}
 }
 
 func TestLeakTheSame(t *testing.T) {
-	same := Pair{counter(1, nil), counter(2, nil), 3, 1, 2000}
-	apart := Pair{func(args, world []int64, fuel int) api.Run {
+	same := pairOf(counter(1, nil), counter(2, nil), 1, 2000)
+	apart := pairOf(func(args, world []int64, fuel int) api.Run {
 		return counter(1, nil)([]int64{9, 0}, world, fuel)
-	}, counter(2, nil), 3, 1, 2000}
+	}, counter(2, nil), 1, 2000)
 	for _, c := range []struct {
 		name             string
 		p                Pair
@@ -91,8 +96,25 @@ func TestLeakTheSame(t *testing.T) {
 			t.Errorf("%s: %t, %s", c.name, isAsked, fault)
 		}
 	}
-	stuck := Pair{counter(1, func(r *api.Run) { r.Kind = api.Stuck }), counter(2, nil), 3, 1, 100}
+	stuck := pairOf(counter(1, func(r *api.Run) { r.Kind = api.Stuck }), counter(2, nil), 1, 100)
 	if isAsked, fault := stuck.LeakTheSame(of(5, 1), of(5, 2)); isAsked || fault != "" {
 		t.Errorf("one that is Stuck: %t, %s", isAsked, fault)
+	}
+}
+
+// TestLeap: where one step below stands for several above, more may be done below with as much fuel.
+func TestLeap(t *testing.T) {
+	for leap, isRight := range map[int]bool{0: false, 1: false, 2: false, 5: true, 9: true} {
+		p := pairOf(counter(5, nil), counter(1, nil), 1, 2000)
+		p.Leap = leap
+		if kind, fault := p.Holds(of(100000, 0)); kind != api.Fuel || (fault == "") != isRight {
+			t.Errorf("one that goes on, with %d steps at once: %d, %s", leap, kind, fault)
+		}
+		if isAsked, fault := p.LeakTheSame(of(500, 3), of(500, 4)); !isAsked || (fault == "") != isRight {
+			t.Errorf("two that end later, with %d steps at once: %t, %s", leap, isAsked, fault)
+		}
+		if kind, fault := p.Holds(of(300, 0)); kind != api.Halt || fault != "" {
+			t.Errorf("one that ends, with %d steps at once: %d, %s", leap, kind, fault)
+		}
 	}
 }

@@ -33,6 +33,14 @@ func (t *teller) function(n int, f *Func) {
 
 func (t *teller) instruction(i *Instr) {
 	shape := shapeOf(i.Op)
+	t.text.WriteByte(' ')
+	t.deed(shape, i)
+	t.field(" S", shape.s, int64(i.S))
+	t.field(" T", shape.t, int64(i.T))
+}
+
+// deed tells what an instruction does.
+func (t *teller) deed(shape shape, i *Instr) {
 	t.operation(shape, i.Op)
 	if shape.sub != anySub || i.Sub != 0 {
 		t.text.WriteString(" " + shape.sub.tell(i.Sub))
@@ -44,8 +52,6 @@ func (t *teller) instruction(i *Instr) {
 		t.text.WriteString(" " + list(i.Args))
 	}
 	t.field(" D", shape.d != unnamed, int64(i.D))
-	t.field(" S", shape.s, int64(i.S))
-	t.field(" T", shape.t, int64(i.T))
 }
 
 // operation tells an Op: its number, if it is none.
@@ -53,7 +59,7 @@ func (t *teller) operation(s shape, op int) {
 	if s.name == "" {
 		s.name = strconv.Itoa(op)
 	}
-	t.text.WriteString(" " + s.name)
+	t.text.WriteString(s.name)
 }
 
 func (t *teller) field(name string, isNamed bool, n int64) {

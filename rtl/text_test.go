@@ -124,3 +124,23 @@ func TestTextSame(t *testing.T) {
 		t.Errorf("Text: %s, want %s", got, want)
 	}
 }
+
+// TestDeed: it is what Text tells of a node, but for where it goes on.
+func TestDeed(t *testing.T) {
+	for _, c := range []struct {
+		i    Instr
+		want string
+	}{
+		{Instr{Op: Nop, S: 3}, "nop"}, {Instr{Op: Const, K: -5, D: 2, S: 3}, "const K-5 D2"}, {Instr{Op: Bin, Sub: 11, A: 1, B: 2, D: 3, S: 4}, "bin add A1 B2 K0 D3"}, {Instr{Op: Cond, Sub: 23, A: 1, B: none, K: 6, S: 4, T: 5}, "cond lt A1 B-1 K6"},
+		{Instr{Op: Call, Sub: 7, Args: []int{1, 0}, D: none, S: 4}, "call 7 (1 0) D-1"}, {Instr{Op: Return, A: none}, "return A-1"}, {Instr{Op: 77, A: 1}, "77 A1"},
+	} {
+		if got := Deed(c.i); got != c.want {
+			t.Errorf("Deed of %+v: %s, want %s", c.i, got, c.want)
+		}
+		elsewhere := c.i
+		elsewhere.S, elsewhere.T = 70, 71
+		if got := Deed(elsewhere); got != c.want {
+			t.Errorf("Deed of %+v: %s, want %s", elsewhere, got, c.want)
+		}
+	}
+}
