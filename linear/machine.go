@@ -7,11 +7,12 @@ import (
 	"plumbob/state"
 )
 
-// places has, by label, where it stands.
-type places []int
+// Places has, by label, where it stands in a row.
+type Places []int
 
-func placesOf(code []Ins) places {
-	var l places
+// PlacesOf tells the places of a row's labels.
+func PlacesOf(code []Ins) Places {
+	var l Places
 	for at, i := range code {
 		if i.Kind != Label {
 			continue
@@ -41,12 +42,12 @@ type call struct {
 
 // start runs a program from its beginning to its end.
 func (m *machine) start(args []api.Val) {
-	pointers, ok := m.Globals(m.program.globals)
+	pointers, ok := m.Globals(m.program.made.Globals)
 	if !ok {
 		return
 	}
 	m.pointers = pointers
-	ok = m.enter(m.program.main, args)
+	ok = m.enter(m.program.made.Main, args)
 	for ok {
 		ok = m.step(&m.calls[len(m.calls)-1])
 	}
@@ -57,7 +58,7 @@ func (m *machine) enter(number int, args []api.Val) bool {
 	if len(m.calls) >= rtl.MaxCalls {
 		return m.End(api.Stuck)
 	}
-	f := &m.program.functions[number]
+	f := &m.program.made.Functions[number]
 	block, ok := m.Block(f.Frame)
 	if !ok {
 		return false
@@ -100,7 +101,7 @@ func (m *machine) step(c *call) bool {
 	if !m.Use(1) {
 		return false
 	}
-	i := &m.program.functions[c.function].Code[c.next]
+	i := &m.program.made.Functions[c.function].Code[c.next]
 	c.next++
 	switch i.Kind {
 	case Jump:
@@ -129,7 +130,7 @@ func (m *machine) choose(c *call, i *Ins) bool {
 
 func (m *machine) call(c *call, number int) bool {
 	m.Show(api.Call, int64(number), 0)
-	args := make([]api.Val, m.program.functions[number].Params)
+	args := make([]api.Val, m.program.made.Functions[number].Params)
 	for n := range args {
 		args[n] = c.Registers[param(n)]
 	}

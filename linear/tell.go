@@ -12,21 +12,21 @@ type teller struct{ text strings.Builder }
 
 func (t *teller) line(l ...string) { t.text.WriteString(strings.Join(l, " ") + "\n") }
 
-func (t *teller) program(p *Prog) {
-	t.line("main", strconv.Itoa(p.main))
-	for n, size := range p.globals {
+func (t *teller) program(p *Parts) {
+	t.line("main", strconv.Itoa(p.Main))
+	for n, size := range p.Globals {
 		t.line("global", strconv.Itoa(n), "of", strconv.Itoa(size), "bytes")
 	}
-	for n, f := range p.functions {
+	for n, f := range p.Functions {
 		t.line("function", strconv.Itoa(n), strconv.Quote(f.Name), "of", strconv.Itoa(f.Params), "with", strconv.Itoa(f.Locations), "locations and", strconv.Itoa(f.Frame), "bytes")
 		for _, i := range f.Code {
-			t.line("\t" + told(i))
+			t.line("\t" + Tell(i))
 		}
 	}
 }
 
-// told tells an instruction.
-func told(i Ins) string {
+// Tell tells an instruction.
+func Tell(i Ins) string {
 	label := strconv.Itoa(i.Label)
 	switch i.Kind {
 	case Label:
