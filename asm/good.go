@@ -59,8 +59,22 @@ func doesSomething(code []Ins) bool {
 
 // takes tells whether an instruction may be one of the program's; a goal hangs on its function, too.
 func (p *Prog) takes(i *Ins) bool {
+	if !i.isFormed() {
+		return false
+	}
+	switch shapeOf(i.Op).sub {
+	case global:
+		return within(i.Sub, len(p.Globals)-1) && within(i.K, int64(p.Globals[i.Sub]))
+	case function:
+		return within(i.Sub, len(p.Funcs)-1)
+	}
+	return true
+}
+
+// isFormed tells whether it may be one of some program's.
+func (i *Ins) isFormed() bool {
 	s := shapeOf(i.Op)
-	if s.name == "" || !s.r.mayBe(i.R) || !s.m.mayBe(i.M) || !s.sub.mayBe(i.Sub, p) || !s.k.mayBe(i, p) {
+	if s.name == "" || !s.r.mayBe(i.R) || !s.m.mayBe(i.M) || !s.sub.mayBe(i.Sub) || !s.k.mayBe(i.K) {
 		return false
 	}
 	return (!s.cc || api.Eq <= i.Cc && i.Cc <= api.Ge) && (!s.l || within(i.L, maxLabel))

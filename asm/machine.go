@@ -16,6 +16,7 @@ var order = [...]int{7, 6, 2, 1, 8, 9}
 type machine struct {
 	state.State
 	program   *Prog
+	hasLabels bool      // do Labels use fuel?
 	goals     [][]int   // of each function's instructions, where those that jump go on
 	pointers  []api.Val // to the globals' blocks
 	registers [registers]api.Val
@@ -94,10 +95,10 @@ func (m *machine) step() bool {
 	if int(m.here.next) == len(code) {
 		return m.End(api.Stuck)
 	}
-	if !m.Use(1) {
+	i := &code[m.here.next]
+	if (m.hasLabels || i.Op != Label) && !m.Use(1) {
 		return false
 	}
-	i := &code[m.here.next]
 	m.here.next++
 	switch i.Op {
 	case Label:

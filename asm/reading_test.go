@@ -14,6 +14,7 @@ type second struct {
 	memory      *mem.Mem
 	world       *trace.World
 	fuel, limit int
+	isFree      bool // do Labels use no fuel?
 	stack, peak int
 	has         map[int]api.Val
 	flags       []api.Val
@@ -52,25 +53,31 @@ func (s *second) more(bytes int) {
 }
 
 // reading is a run that is over.
-func reading(p asm.Prog, args, world []int64, fuel, limit int) (s *second) {
-	s = &second{p: p, memory: mem.New(), world: trace.New(world), fuel: fuel, limit: limit, has: map[int]api.Val{}}
+func reading(p asm.Prog, args, world []int64, fuel, limit int) *second {
+	s := &second{p: p, fuel: fuel, limit: limit}
+	s.begin(args, world)
+	return s
+}
+
+// begin runs it to its end.
+func (s *second) begin(args, world []int64) {
+	s.memory, s.world, s.has = mem.New(), trace.New(world), map[int]api.Val{}
 	defer func() {
 		if r := recover(); r != nil && r != (over{}) {
 			panic(r)
 		}
 	}()
-	for _, size := range p.Globals {
+	for _, size := range s.p.Globals {
 		block, _ := s.memory.Alloc(size)
 		s.memory.Zero(block)
 	}
-	for n, r := range []int{7, 6, 2, 1, 8, 9}[:p.Params] {
+	for n, r := range []int{7, 6, 2, 1, 8, 9}[:s.p.Params] {
 		s.has[r] = val.Of(args[n])
 	}
-	s.call(p.Main)
+	s.call(s.p.Main)
 	s.must(s.has[0].Kind == api.Int)
 	s.run.Exit = s.has[0].N
 	s.run.Kind = api.Halt
-	return s
 }
 
 // call executes a function to its Ret.
@@ -81,6 +88,9 @@ func (s *second) call(number int) {
 	block, size, above := 0, int64(0), api.Val{}
 	for at := 0; ; at++ {
 		s.must(at < len(code))
+		if s.isFree && code[at].Op == asm.Label {
+			continue
+		}
 		if s.run.Steps == s.fuel {
 			s.end(api.Fuel)
 		}

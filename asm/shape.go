@@ -99,15 +99,13 @@ func (p place) mayBe(n int) bool {
 	return p == unnamed || within(n, registers-1) && (p == register || n != rsp)
 }
 
-// mayBe tells whether a Sub is of its kind.
-func (s sub) mayBe(n int, p *Prog) bool {
+// mayBe tells whether a Sub is of its kind: which globals and functions there are hangs on the program.
+func (s sub) mayBe(n int) bool {
 	switch s {
 	case chunk:
 		return n == 1 || n == 4 || n == 8
-	case global:
-		return within(n, len(p.Globals)-1)
-	case function:
-		return within(n, len(p.Funcs)-1)
+	case global, function:
+		return n >= 0
 	case arithmetic:
 		return n == api.Add || n == api.Sub || n == api.Mul || n == api.And || n == api.Or || n == api.Xor
 	case negation:
@@ -120,17 +118,17 @@ func (s sub) mayBe(n int, p *Prog) bool {
 	return true
 }
 
-// mayBe tells whether the K of an instruction whose Sub is right is of its kind.
-func (c constant) mayBe(i *Ins, p *Prog) bool {
+// mayBe tells whether a K is of its kind: how many bytes a global has hangs on the program.
+func (c constant) mayBe(k int64) bool {
 	switch c {
 	case short:
-		return int64(int32(i.K)) == i.K
+		return int64(int32(k)) == k
 	case offset:
-		return within(i.K, int64(p.Globals[i.Sub]))
+		return k >= 0
 	case count:
-		return within(i.K, 63)
+		return within(k, 63)
 	case size:
-		return within(i.K, api.MaxSize)
+		return within(k, api.MaxSize)
 	}
 	return true
 }
